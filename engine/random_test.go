@@ -154,7 +154,7 @@ func (p *play) finish() {
 // drain lets all sessions end what they have to do, and their transactions: nobody waits for ever (P25.8).
 func (p *play) drain() {
 	p.Helper()
-	for range 20000 {
+	for range 300000 { // more than a query of three sources takes
 		for n := range p.j.sessions {
 			if s := p.j.sessions[n]; !s.Busy && (s.Begun || s.Aborted) {
 				text := "COMMIT"
